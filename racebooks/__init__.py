@@ -1,0 +1,1 @@
+"""Racebooks: sure gains, chances that bar them, and the odds of pools."""

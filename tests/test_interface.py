@@ -1,0 +1,55 @@
+"""The interface: its names, arguments, and the files in which they are defined."""
+
+import ast
+import importlib
+import inspect
+import unittest
+from pathlib import Path
+
+PACKAGE = Path(__file__).resolve().parent.parent / "racebooks"
+
+FUNCTIONS = {
+    "races": {
+        "outcomes": ["race"], "is_outcome": ["race", "value"], "is_bet": ["race", "value"],
+        "share": ["race", "bet", "outcome"]},
+    "offers": {
+        "gain": ["race", "offer", "outcome"], "gains": ["race", "offers", "stakes"],
+        "mean": ["race", "offer", "chances"]}}
+CLASSES = {
+    "errors": {
+        "BookError": None, "BadValue": ["at"], "BadOffer": ["at"], "BadSyntax": ["at"], "TooMany": ["word"]},
+    "races": {"Race": ["runners", "ties", "absent", "cuts"]}}
+
+
+def defined(module, kind):
+    tree = ast.parse((PACKAGE / f"{module}.py").read_text())
+    return [node.name for node in tree.body if isinstance(node, kind)]
+
+
+class Interface(unittest.TestCase):
+    def test_package_is_a_folder_of_its_own(self):
+        self.assertTrue((PACKAGE / "__init__.py").is_file())
+
+    def test_functions(self):
+        for module, names in FUNCTIONS.items():
+            for name, arguments in names.items():
+                self.assertIn(name, defined(module, ast.FunctionDef))
+                function = getattr(importlib.import_module(f"racebooks.{module}"), name)
+                self.assertEqual(list(inspect.signature(function).parameters), arguments)
+
+    def test_classes(self):
+        for module, names in CLASSES.items():
+            for name, arguments in names.items():
+                self.assertIn(name, defined(module, ast.ClassDef))
+                made = getattr(importlib.import_module(f"racebooks.{module}"), name)
+                if arguments is not None:
+                    self.assertEqual(list(inspect.signature(made).parameters), arguments)
+
+    def test_properties_of_race(self):
+        made = importlib.import_module("racebooks.races").Race
+        for name in CLASSES["races"]["Race"]:
+            self.assertIn(name, vars(made))
+
+
+if __name__ == "__main__":
+    unittest.main()
