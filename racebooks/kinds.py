@@ -31,11 +31,16 @@ def is_fraction(value):
     return bottom > 0 and gcd(top, bottom) == 1
 
 
+def is_amount(value):
+    """Whether value is a fraction of 0 or more."""
+    return is_fraction(value) and value[0] >= 0
+
+
 def are_amounts(value, many):
     """Whether value is a sequence of so many fractions, none below 0."""
     if not is_sequence(value) or len(value) != many:
         return False
-    return all([is_fraction(part) and part[0] >= 0 for part in value])
+    return all([is_amount(part) for part in value])
 
 
 def fraction(top, bottom):
@@ -54,6 +59,29 @@ def minus(left, right):
 
 def times(left, right):
     return fraction(left[0] * right[0], left[1] * right[1])
+
+
+def one_over(number):
+    """1 divided by the number, which is above 0."""
+    return (number[1], number[0])
+
+
+def is_below(left, right):
+    return left[0] * right[1] < right[0] * left[1]
+
+
+def least_of(fractions):
+    """The least of the fractions, of which there is at least one."""
+    found = fractions[0]
+    for part in fractions:
+        if is_below(part, found):
+            found = part
+    return found
+
+
+def scaled(fractions, factor):
+    """The tuple of the fractions, each times the factor."""
+    return tuple([times(part, factor) for part in fractions])
 
 
 def total(fractions):

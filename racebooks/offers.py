@@ -26,7 +26,7 @@ def gains(race, offers, stakes):
     need_offers(race, offers, 2)
     if not are_stakes(offers, stakes):
         raise BadValue(3)
-    return tuple([_book_gain(race, offers, stakes, outcome) for outcome in outcomes(race)])
+    return book_gains(race, offers, stakes)
 
 
 def mean(race, offer, chances):
@@ -36,7 +36,7 @@ def mean(race, offer, chances):
         raise BadValue(2)
     if not are_chances(race, chances):
         raise BadValue(3)
-    return total_product(chances, [offer_gain(race, offer, outcome) for outcome in outcomes(race)])
+    return offer_mean(race, offer, chances)
 
 
 def is_offer(race, value):
@@ -46,8 +46,8 @@ def is_offer(race, value):
     return is_bet(race, bet) and _are_odds(odds) and side in ("for", "against")
 
 
-def need_offers(race, offers, at):
-    if not is_sequence(offers) or not 1 <= len(offers) <= MOST_OFFERS:
+def need_offers(race, offers, at, least=1, most=MOST_OFFERS):
+    if not is_sequence(offers) or not least <= len(offers) <= most:
         raise BadValue(at)
     for number, offer in enumerate(offers):
         if not is_offer(race, offer):
@@ -75,9 +75,28 @@ def offer_gain(race, offer, outcome):
     right = bet_share(bet, outcome)
     if right is None:
         return ZERO
-    won = times(times(right, odds), fraction(100 - cut_in(race, outcome), 100))
-    worth = minus(won, minus(ONE, right))
+    worth = minus(times(paid_share(race, right, outcome), odds), minus(ONE, right))
     return worth if side == "for" else minus(ZERO, worth)
+
+
+def paid_share(race, right, outcome):
+    """What is left of a share after the cuts of the outcome."""
+    return times(right, fraction(100 - cut_in(race, outcome), 100))
+
+
+def offer_gains(race, offer):
+    """What the offer, which is known to be of the race, gains in each outcome."""
+    return [offer_gain(race, offer, outcome) for outcome in outcomes(race)]
+
+
+def offer_mean(race, offer, chances):
+    """As mean, for an offer and chances that are known to be of the race."""
+    return total_product(chances, offer_gains(race, offer))
+
+
+def book_gains(race, offers, stakes):
+    """As gains, for offers and stakes that are known to be as told; there may be no offers."""
+    return tuple([_book_gain(race, offers, stakes, outcome) for outcome in outcomes(race)])
 
 
 def _are_odds(value):

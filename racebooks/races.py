@@ -1,5 +1,7 @@
 """Races, their outcomes, bets on them, and what share of a bet is right."""
 
+from itertools import permutations
+
 from racebooks.errors import BadValue
 from racebooks.kinds import fraction, is_integer_within, is_sequence
 
@@ -176,7 +178,8 @@ def _orders(runners, ties):
 
 def _sequences(runners):
     """All sequences of all of these runners."""
-    return [tuple(running_in(order)) for order in _orders(runners, False)]
+    listed = list(runners)
+    return list(permutations(listed))
 
 
 def _ways(outcome):

@@ -14,7 +14,14 @@ FUNCTIONS = {
         "share": ["race", "bet", "outcome"]},
     "offers": {
         "gain": ["race", "offer", "outcome"], "gains": ["race", "offers", "stakes"],
-        "mean": ["race", "offer", "chances"]}}
+        "mean": ["race", "offer", "chances"]},
+    "books": {"sure": ["race", "offers"], "surest": ["race", "offers"]},
+    "checking": {
+        "gain_holds": ["race", "offers", "stakes"], "chances_hold": ["race", "offers", "chances"],
+        "surest_holds": ["race", "offers", "value"]},
+    "further": {
+        "top_odds": ["race", "offers", "bet"], "top_holds": ["race", "offers", "bet", "odds", "proof"],
+        "low_odds": ["race", "offers", "bet"], "low_holds": ["race", "offers", "bet", "odds", "proof"]}}
 CLASSES = {
     "errors": {
         "BookError": None, "BadValue": ["at"], "BadOffer": ["at"], "BadSyntax": ["at"], "TooMany": ["word"]},

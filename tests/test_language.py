@@ -1,6 +1,7 @@
 """Those rules of LANGUAGE.md that a short look at the files can tell."""
 
 import ast
+import builtins
 import unittest
 from pathlib import Path
 
@@ -58,6 +59,18 @@ class Language(unittest.TestCase):
             names = names_of(tree, once=False)
             names += [name.name for node in tree.body if isinstance(node, ast.ImportFrom) for name in node.names]
             self.assertEqual(sorted(names), sorted(set(names)), path.name)
+
+    def test_no_name_means_something_else_inside(self):
+        for path, tree in trees():
+            taken = names_of(tree) | set(dir(builtins))
+            taken |= {name.name for node in tree.body if isinstance(node, ast.ImportFrom) for name in node.names}
+            for node in ast.walk(tree):
+                if isinstance(node, ast.arg):
+                    self.assertNotIn(node.arg, taken, path.name)
+                if isinstance(node, ast.FunctionDef):
+                    inside = [part.id for part in ast.walk(node)
+                              if isinstance(part, ast.Name) and isinstance(part.ctx, ast.Store)]
+                    self.assertFalse(set(inside) & taken, (path.name, node.name))
 
     def test_no_floats(self):
         for path, tree in trees():
