@@ -38,9 +38,14 @@ def is_amount(value):
 
 def are_amounts(value, many):
     """Whether value is a sequence of so many fractions, none below 0."""
+    return are_fractions(value, many) and all([part[0] >= 0 for part in value])
+
+
+def are_fractions(value, many):
+    """Whether value is a sequence of so many fractions."""
     if not is_sequence(value) or len(value) != many:
         return False
-    return all([is_amount(part) for part in value])
+    return all([is_fraction(part) for part in value])
 
 
 def fraction(top, bottom):

@@ -8,7 +8,7 @@ from functools import lru_cache
 from math import gcd
 
 from racebooks.races import outcomes
-from tests.helpers import all_bets, pair, told_gain, told_share
+from tests.helpers import all_bets, pair, told_share
 
 FEW_ODDS = ((1, 1), (2, 1), (1, 2), (3, 2), (2, 3), (3, 1), (1000, 1), (1, 1000), (999, 1000), (7, 5))
 
@@ -266,3 +266,45 @@ def bent(draw, value):
         others += [pair(number + step) for step in (-1, Fraction(-1, 10 ** 9), Fraction(1, 10 ** 9), 1)]
         others.append((old[0] * 2, old[1] * 2))
     return replaced(value, way, draw.choice(others))
+
+
+def told_fit_holds(race, quotes, value):
+    if not isinstance(value, (tuple, list)) or len(value) != 2 or value[0] not in ("chances", "weights"):
+        return False
+    rows = excesses_of(race, quotes)
+    if value[0] == "chances":
+        chances = chances_of(race, value[1])
+        return chances is not None and all(mean == 0 for mean in means_of(chances, rows))
+    if not isinstance(value[1], (tuple, list)) or len(value[1]) != len(quotes):
+        return False
+    weights = [number_of(part) for part in value[1]]
+    return None not in weights and all(gain_of(weights, row) >= 1 for row in rows)
+
+
+def excesses_of(race, quotes):
+    """For each outcome, by how much the shares of the quotes are above the told chances."""
+    return [[share_of(tupled(bet), outcome) - Fraction(*chance) for bet, chance in quotes]
+            for outcome in outcomes(race)]
+
+
+def drawn_quotes(draw, race, many):
+    """Quotes with any chances from 0 to 1, often the same few."""
+    few = ((0, 1), (1, 1), (1, 2), (1, 3), (2, 3), (1, 10 ** 30))
+    quotes = []
+    for _ in range(many):
+        bottom = draw.randint(1, 60)
+        any_chance = pair(Fraction(draw.randint(0, bottom), bottom))
+        quotes.append((drawn_bet(draw, race), draw.choice(few) if draw.random() < 0.4 else any_chance))
+    return tuple(quotes)
+
+
+def fitting_quotes(draw, race, many):
+    """Quotes that drawn chances have, and those chances."""
+    come = outcomes(race)
+    chances = drawn_chances(draw, len(come))
+    quotes = []
+    for _ in range(many):
+        bet = drawn_bet(draw, race)
+        told = sum(chance * share_of(bet, outcome) for chance, outcome in zip(chances, come, strict=True))
+        quotes.append((bet, pair(told)))
+    return tuple(quotes), tuple(pair(chance) for chance in chances)

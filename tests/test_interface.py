@@ -21,11 +21,19 @@ FUNCTIONS = {
         "surest_holds": ["race", "offers", "value"]},
     "further": {
         "top_odds": ["race", "offers", "bet"], "top_holds": ["race", "offers", "bet", "odds", "proof"],
-        "low_odds": ["race", "offers", "bet"], "low_holds": ["race", "offers", "bet", "odds", "proof"]}}
+        "low_odds": ["race", "offers", "bet"], "low_holds": ["race", "offers", "bet", "odds", "proof"]},
+    "told": {"fit": ["race", "quotes"], "fit_holds": ["race", "quotes", "value"]},
+    "pools": {
+        "payments": ["pool", "stakes"], "comes": ["pool", "row"], "least_stakes": ["pool", "row"],
+        "spread": ["pool", "row"], "pool_gain": ["pool", "stakes", "own"]},
+    "texts": {"printed": ["value"], "parse": ["text"]}}
 CLASSES = {
     "errors": {
         "BookError": None, "BadValue": ["at"], "BadOffer": ["at"], "BadSyntax": ["at"], "TooMany": ["word"]},
-    "races": {"Race": ["runners", "ties", "absent", "cuts"]}}
+    "races": {"Race": ["runners", "ties", "absent", "cuts"]},
+    "console": {"Console": []}}
+# Of each, the arguments that a caller passes to a method of an object, or of the class for replayed.
+METHODS = {"run": ["command"], "log": [], "replayed": ["log"]}
 
 
 def defined(module, kind):
@@ -51,6 +59,14 @@ class Interface(unittest.TestCase):
                 made = getattr(importlib.import_module(f"racebooks.{module}"), name)
                 if arguments is not None:
                     self.assertEqual(list(inspect.signature(made).parameters), arguments)
+
+    def test_methods_of_console(self):
+        made = importlib.import_module("racebooks.console").Console
+        for name, arguments in METHODS.items():
+            self.assertIn(name, vars(made))
+            asked = made if name == "replayed" else made()
+            self.assertEqual(list(inspect.signature(getattr(asked, name)).parameters), arguments)
+        self.assertIsInstance(vars(made)["replayed"], (classmethod, staticmethod))
 
     def test_properties_of_race(self):
         made = importlib.import_module("racebooks.races").Race

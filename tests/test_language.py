@@ -15,6 +15,12 @@ LIBRARY = {"math": {"gcd", "lcm", "isqrt", "comb", "perm", "factorial"},
 DECORATORS = {"property", "staticmethod", "classmethod"}
 # Because Race has __eq__ (L7).
 TAKE_LISTS = {"any", "all", "min", "max", "sum", "sorted"}
+# Those of L8 and L25 that the package has needed so far.
+BUILTINS = {"len", "range", "enumerate", "zip", "min", "max", "sum", "abs", "sorted", "int", "str", "bool", "list",
+            "tuple", "dict", "set", "isinstance", "any", "all", "Exception", "property", "staticmethod"}
+METHODS = {"append", "extend", "join", "split", "partition", "startswith", "isascii", "isdigit", "isalpha", "islower"}
+STATEMENTS = (ast.Assign, ast.AugAssign, ast.If, ast.While, ast.For, ast.Return, ast.Raise, ast.Expr, ast.Try,
+              ast.Import, ast.ImportFrom, ast.FunctionDef, ast.ClassDef)
 
 
 def trees():
@@ -62,7 +68,8 @@ class Language(unittest.TestCase):
 
     def test_no_name_means_something_else_inside(self):
         for path, tree in trees():
-            taken = names_of(tree) | set(dir(builtins))
+            # A doctest that has run leaves _ among the builtins.
+            taken = names_of(tree) | set(dir(builtins)) - {"_"}
             taken |= {name.name for node in tree.body if isinstance(node, ast.ImportFrom) for name in node.names}
             for node in ast.walk(tree):
                 if isinstance(node, ast.arg):
@@ -85,6 +92,48 @@ class Language(unittest.TestCase):
                 if isinstance(node, (ast.FunctionDef, ast.ClassDef)):
                     names = {told.id for told in node.decorator_list if isinstance(told, ast.Name)}
                     self.assertLessEqual(names, DECORATORS, path.name)
+
+    def test_builtins(self):
+        for path, tree in trees():
+            used = {node.id for node in ast.walk(tree) if isinstance(node, ast.Name)} & (set(dir(builtins)) - {"_"})
+            self.assertLessEqual(used, BUILTINS, path.name)
+
+    def test_methods(self):
+        own = {node.name for _, tree in trees() for node in ast.walk(tree) if isinstance(node, ast.FunctionDef)}
+        for path, tree in trees():
+            for node in ast.walk(tree):
+                if isinstance(node, ast.Call) and isinstance(node.func, ast.Attribute):
+                    self.assertIn(node.func.attr, METHODS | own, path.name)
+                    self.assertFalse(node.keywords, path.name)
+
+    def test_statements(self):
+        for path, tree in trees():
+            for node in ast.walk(tree):
+                if isinstance(node, ast.stmt):
+                    self.assertIsInstance(node, STATEMENTS, path.name)
+
+    def test_strings(self):
+        for path, tree in trees():
+            for node in ast.walk(tree):
+                if isinstance(node, ast.Constant) and isinstance(node.value, str):
+                    self.assertNotIn(chr(37), node.value, path.name)
+
+    def test_errors_that_are_raised_and_caught(self):
+        for path, tree in trees():
+            for node in ast.walk(tree):
+                if isinstance(node, ast.Raise):
+                    self.assertIn(node.exc.func.id, ("BadValue", "BadOffer", "BadSyntax", "TooMany"), path.name)
+                if isinstance(node, ast.ExceptHandler):
+                    self.assertIn(node.type.id, ("BadValue", "BadOffer", "TooMany"), path.name)
+
+    def test_no_two_files_import_from_each_other(self):
+        wanted = {path.stem: {node.module.partition(".")[2] for node in tree.body if isinstance(node, ast.ImportFrom)
+                              and node.module not in LIBRARY} for path, tree in trees()}
+        while wanted:
+            free = [name for name, others in wanted.items() if not others & set(wanted)]
+            self.assertTrue(free, wanted)
+            for name in free:
+                del wanted[name]
 
     def test_no_generator_expression_where_a_list_is_due(self):
         for path, tree in trees():
